@@ -1,0 +1,1 @@
+"""Twinrooms: rooms with named doors, and which of them nobody can tell apart."""
