@@ -3,17 +3,12 @@
 import unittest
 from itertools import product
 
-from tests.made import Writer, hall_of, made_hall, made_sheet, slow_alike_pairs, slow_is_matching
-from tests.made import slow_together, small_halls, state
+from tests.made import RefusalCase, Writer, chain, hall_of, made_hall, made_sheet, slow_alike_pairs
+from tests.made import slow_is_matching, slow_together, small_halls, state
 from twinrooms.alike import alike, is_matching, matching, parted, rounds
-from twinrooms.errors import HallError, NoRoom
+from twinrooms.errors import NoRoom
 from twinrooms.halls import Hall, beside
 from twinrooms.sheets import depths, rooms_of
-
-
-def chain(length):
-    """Each room leads to the next one alone; the last one leads nowhere."""
-    return hall_of([0] * length, [(a, 0, a + 1) for a in range(length - 1)])
 
 
 class IsMatchingTest(unittest.TestCase):
@@ -255,13 +250,10 @@ class AlikeTest(unittest.TestCase):
                 self.assertIs(alike(both, a, a + hall.size()), True)
 
 
-class NoRoomTest(unittest.TestCase):
+class NoRoomTest(RefusalCase):
 
     def assert_no_room(self, call, *handed):
-        with self.assertRaises(HallError) as caught:
-            call(*handed)
-        self.assertIs(type(caught.exception), NoRoom)
-        self.assertIsInstance(caught.exception, ValueError)
+        self.assert_refused(NoRoom, call, *handed)
 
     def test_in_each_place(self):
         hall = hall_of([0, 0, 1], [(0, 5, 1), (1, 5, 0)])

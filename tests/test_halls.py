@@ -2,23 +2,9 @@
 
 import unittest
 
-from tests.made import hall_of, state
-from twinrooms.errors import DoorThere, HallError, NoDoor, NoRoom, TooMany
+from tests.made import RefusalCase, full_hall, hall_of, state
+from twinrooms.errors import DoorThere, NoDoor, NoRoom, TooMany
 from twinrooms.halls import Hall, beside
-
-
-def full_hall():
-    """Twenty rooms, one door name, a door from each to each: 400 doors."""
-    return hall_of([0] * 20, [(a, 7, b) for a in range(20) for b in range(20)])
-
-
-class RefusalCase(unittest.TestCase):
-
-    def assert_refused(self, error, call, *handed):
-        with self.assertRaises(HallError) as caught:
-            call(*handed)
-        self.assertIs(type(caught.exception), error)
-        self.assertIsInstance(caught.exception, ValueError)
 
 
 class RoomsTest(RefusalCase):

@@ -90,6 +90,43 @@ class LanguageTest(unittest.TestCase):
                     bound = {item.name for item in source.body if isinstance(item, (ast.FunctionDef, ast.ClassDef))}
                     self.assertLessEqual({item.name for item in node.names}, bound)
 
+    def test_no_two_files_draw_from_one_another(self):
+        drawn = {}
+        for name, tree in self.each_tree():
+            sources = [node.module for node in ast.walk(tree) if isinstance(node, ast.ImportFrom)]
+            drawn[name] = {source.partition(".")[2] + ".py" for source in sources}
+        while drawn:
+            free = [name for name in drawn if not drawn[name] & set(drawn)]
+            self.assertTrue(free, drawn)
+            for name in free:
+                drawn.pop(name)
+
+    def test_is_stands_beside_none_true_and_false_alone(self):
+        for name, tree in self.each_tree():
+            for node in ast.walk(tree):
+                if isinstance(node, ast.Compare) and isinstance(node.ops[0], (ast.Is, ast.IsNot)):
+                    self.assertIsInstance(node.comparators[0], ast.Constant, (name, node.lineno))
+                    self.assertIn(node.comparators[0].value, (None, True, False))
+
+    def test_sets_are_not_kept(self):
+        for name, tree in self.each_tree():
+            taken = set()
+            for node in ast.walk(tree):
+                if isinstance(node, ast.Call) and isinstance(node.func, ast.Name) and node.func.id in ("sorted", "len"):
+                    taken |= {id(one) for part in node.args for one in ast.walk(part)}
+                if isinstance(node, ast.Compare):
+                    taken |= {id(one) for part in [node.left] + node.comparators for one in ast.walk(part)}
+            for node in ast.walk(tree):
+                if isinstance(node, ast.Call) and isinstance(node.func, ast.Name) and node.func.id == "set":
+                    self.assertIn(id(node), taken, (name, node.lineno))
+
+    def test_errors_that_are_taken_are_the_programs_own(self):
+        own = {node.name for node in ast.parse(text_of("errors.py")).body if isinstance(node, ast.ClassDef)}
+        for name, tree in self.each_tree():
+            for node in ast.walk(tree):
+                if isinstance(node, ast.ExceptHandler):
+                    self.assertIn(ast.unparse(node.type), own, (name, node.lineno))
+
     def test_names(self):
         for name, tree in self.each_tree():
             names = [node for node in ast.walk(tree) if isinstance(node, ast.Name)]
